@@ -1,0 +1,1 @@
+"""Classifications: trees of groups that are edited, published and compared."""
