@@ -30,7 +30,7 @@ def agreed_tree(one, other):
     tree = empty_tree()
     for key in kept:
         set_group(tree, key, one.ranks[key], nearest_kept(one, kept, one.parents[key]))
-    for x in one.homes:
+    for x in sorted(one.homes):
         home = nearest_kept(one, kept, one.homes[x])
         if home != 0:
             tree.homes[x] = home
