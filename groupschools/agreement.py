@@ -1,18 +1,15 @@
 """What two trees agree on."""
 
-from groupschools.trees import empty_tree, held_specimens, set_group
+from groupschools.trees import empty_tree, held_specimens, set_group, sets_of
 
 
 def kept_groups(one, other):
     """A dict of the groups of one that hold something which a group of the other holds too, no more and no less."""
-    others = {}
-    held = held_specimens(other)
-    for key in held:
-        others[tuple(held[key])] = True
-    kept = {}
+    sets = sets_of(other)
     held = held_specimens(one)
+    kept = {}
     for key in held:
-        if len(held[key]) > 0 and tuple(held[key]) in others:
+        if tuple(held[key]) in sets:
             kept[key] = True
     return kept
 

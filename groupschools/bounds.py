@@ -13,6 +13,7 @@ FULL = -9
 
 MOST_KEY = 1000000000
 MOST_RANK = 8
+MOST_FAMILY = 3
 MOST_DAY = 1000000
 MOST_SCHOOL = 3
 MOST_GROUPS = 32
@@ -41,6 +42,11 @@ def is_rank(number):
     return 1 <= number <= MOST_RANK
 
 
+def is_family(number):
+    """Whether the number is that of a family of ranks."""
+    return 1 <= number <= MOST_FAMILY
+
+
 def is_day(number):
     """Whether the number is a day."""
     return 0 <= number <= MOST_DAY
@@ -62,3 +68,11 @@ def are_keys_once(numbers):
         if not is_key(number):
             return False
     return not has_twice(numbers)
+
+
+def are_all_in(numbers, there):
+    """Whether each of the numbers is in the list, or among the keys of the dict, that's given second."""
+    for number in numbers:
+        if number not in there:
+            return False
+    return True

@@ -5,7 +5,7 @@ Each changes the tree that it's given and answers DONE, or answers its refusal a
 
 from groupschools.bounds import (
     BAD_VALUE, DONE, FULL, MISFIT, MOST_GROUPS, MOST_SPECIMENS, NO_CHANGE, NOT_THERE, THERE_ALREADY,
-    are_keys_once, is_key, is_parent, is_rank,
+    are_all_in, are_keys_once, is_key, is_parent, is_rank,
 )
 from groupschools.trees import drop_group, groups_in, hand_over, may_stand_in, set_group, specimens_in
 
@@ -82,14 +82,6 @@ def lump_groups(tree, a, b):
     hand_over(tree, b, a)
     drop_group(tree, b)
     return DONE
-
-
-def are_all_in(told, there):
-    """Whether each of the numbers told is in the other list."""
-    for number in told:
-        if number not in there:
-            return False
-    return True
 
 
 def split_group(tree, a, key, groups, specimens):

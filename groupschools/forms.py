@@ -141,3 +141,12 @@ def load_text(tree, text):
     if refusal != DONE:
         return refusal
     return replace_tree(tree, other)
+
+
+def check_text(text):
+    """How many groups and specimens the text's tree has, or the refusal."""
+    tree = empty_tree()
+    refusal = read_tree(text, tree)
+    if refusal != DONE:
+        return [refusal]
+    return [len(tree.ranks), len(tree.homes)]

@@ -59,6 +59,14 @@ def told_tree(house, number, day):
     return school.versions[latest_day(school, day)]
 
 
+def told_refusal_of_two(house, told):
+    """The refusal of two trees, or DONE; told is the first one's school and day, then the second's."""
+    refusal = told_refusal(house, told[0], told[1])
+    if refusal != DONE:
+        return refusal
+    return told_refusal(house, told[2], told[3])
+
+
 def fetch_tree(house, tree, other, day):
     """The tree becomes the one that is told."""
     refusal = told_refusal(house, other, day)
@@ -69,10 +77,7 @@ def fetch_tree(house, tree, other, day):
 
 def agree_trees(house, tree, told):
     """The tree becomes what two told trees agree on; told is the first one's school and day, then the second's."""
-    refusal = told_refusal(house, told[0], told[1])
-    if refusal != DONE:
-        return refusal
-    refusal = told_refusal(house, told[2], told[3])
+    refusal = told_refusal_of_two(house, told)
     if refusal != DONE:
         return refusal
     return replace_tree(tree, agreed_tree(told_tree(house, told[0], told[1]), told_tree(house, told[2], told[3])))
@@ -105,3 +110,11 @@ def publish_draft(house, number, day):
         return FULL
     school.versions[day] = school.draft
     return DONE
+
+
+def list_versions(house, number):
+    """How many versions the school has, and their days, or the refusal."""
+    if not is_school(number):
+        return [BAD_VALUE]
+    days = sorted(house.schools[number].versions)
+    return [len(days)] + days

@@ -54,6 +54,11 @@ def groups_in(tree, parent):
     return [key for key in tree.parents if tree.parents[key] == parent]
 
 
+def groups_of_rank(tree, rank):
+    """The groups that have this rank."""
+    return [key for key in tree.ranks if tree.ranks[key] == rank]
+
+
 def specimens_in(tree, home):
     """The specimens that have this home."""
     return [x for x in tree.homes if tree.homes[x] == home]
@@ -85,14 +90,31 @@ def is_too_big(tree):
     return len(tree.ranks) > MOST_GROUPS or len(tree.homes) > MOST_SPECIMENS
 
 
+def groups_from(tree, group):
+    """The group and all that are above it, the nearest first."""
+    chain = []
+    while group != 0:
+        chain.append(group)
+        group = tree.parents[group]
+    return chain
+
+
 def held_specimens(tree):
     """For each group the specimens that it holds, ascending."""
     held = {}
     for key in tree.ranks:
         held[key] = []
     for x in sorted(tree.homes):
-        group = tree.homes[x]
-        while group != 0:
-            held[group].append(x)
-            group = tree.parents[group]
+        for key in groups_from(tree, tree.homes[x]):
+            held[key].append(x)
     return held
+
+
+def sets_of(tree):
+    """A dict of the tree's sets: what some group holds, ascending and not empty, each once."""
+    sets = {}
+    held = held_specimens(tree)
+    for key in held:
+        if len(held[key]) > 0:
+            sets[tuple(held[key])] = True
+    return sets

@@ -41,9 +41,14 @@ def dissolve(school, key):
     return [7, school, key]
 
 
-def load(school, text):
+def in_bytes(written):
+    """The bytes of a text that is a str of ASCII signs, or a list of bytes."""
+    return [ord(sign) for sign in written] if isinstance(written, str) else list(written)
+
+
+def load(school, written):
     """The text is a str of ASCII signs, or a list of bytes."""
-    row = [ord(sign) for sign in text] if isinstance(text, str) else list(text)
+    row = in_bytes(written)
     return [8, school, len(row)] + row
 
 
@@ -69,6 +74,60 @@ def publish(school, day):
     return [13, school, day]
 
 
+def text(school, day):
+    return [14, school, day]
+
+
+def holds(school, day, key):
+    return [15, school, day, key]
+
+
+def path(school, day, x):
+    return [16, school, day, x]
+
+
+def common(school, day, specimens):
+    return [17, school, day, len(specimens)] + specimens
+
+
+def level(school, day, number):
+    return [18, school, day, number]
+
+
+def topmost(school, day, family, x):
+    return [19, school, day, family, x]
+
+
+def diff(a, aday, b, bday):
+    return [20, a, aday, b, bday]
+
+
+def clashes(a, aday, b, bday):
+    return [21, a, aday, b, bday]
+
+
+def distance(a, aday, b, bday):
+    return [22, a, aday, b, bday]
+
+
+def closer(school, day, x, y, z):
+    return [23, school, day, x, y, z]
+
+
+def versions(school):
+    return [24, school]
+
+
+def counts(school, day):
+    return [25, school, day]
+
+
+def check(written):
+    """The text is a str of ASCII signs, or a list of bytes."""
+    row = in_bytes(written)
+    return [26, len(row)] + row
+
+
 class ReadOnly(list):
     """A list that can't be changed, not for a while either."""
 
@@ -92,13 +151,18 @@ def read_answers(given, count):
     return told
 
 
-def ask(calls):
-    """The one number that each of the calls answers."""
+def ask_all(calls):
+    """The list of numbers that each of the calls answers."""
     line = ReadOnly(number for call in calls for number in call)
     given = answers(line)
-    if not isinstance(given, list) or any(type(number) is not int for number in given):
+    if type(given) is not list or any(type(number) is not int for number in given):
         raise AssertionError("not a list of whole numbers: %r" % (given,))
-    told = read_answers(given, len(calls))
+    return read_answers(given, len(calls))
+
+
+def ask(calls):
+    """The one number that each of the calls answers."""
+    told = ask_all(calls)
     if any(len(numbers) != 1 for numbers in told):
         raise AssertionError("not one number a call: %r" % (told,))
     return [numbers[0] for numbers in told]
@@ -141,3 +205,30 @@ class LineCase(unittest.TestCase):
             for call in calls:
                 with self.subTest(call=call):
                     self.check_refused(refusal, call)
+
+
+class QuestionCase(unittest.TestCase):
+    """Checks what questions answer on houses where calls that aren't refused have gone before."""
+
+    def look(self):
+        """Calls whose answers tell the whole house: versions, then drafts and earlier drafts."""
+        calls = [versions(school) for school in (1, 2, 3)]
+        calls += [text(school, day) for school in (1, 2, 3) for day in (0, 5, 10, 15, 20, MOST_DAY)]
+        for school in (1, 2, 3):
+            calls += [text(school, -1)] + [undo(school), text(school, -1)] * 13
+        return calls
+
+    def check_answer(self, expected, question, *before):
+        """The question answers so, again and again, and the house is as if it hadn't been asked."""
+        before = list(before)
+        told = ask_all(before + [question, question] + self.look())
+        start = len(before)
+        self.assertEqual(told[:start], [[0]] * start, before)
+        self.assertEqual(told[start:start + 2], [expected, expected], (question, before))
+        self.assertEqual(told[start + 2:], ask_all(before + self.look())[start:], question)
+
+    def check_draft_of(self, written, expected, question):
+        """The question, which is of school 1's draft, answers so where the draft is the tree of the text."""
+        # The empty tree is a new school's draft, so loading it at once would be refused.
+        before = [load(1, "8:8"), load(1, written)]
+        self.check_answer(expected, question, *before)

@@ -1,9 +1,11 @@
 """The document's words in another form, slow and plain, to compare the program with.
 
 A tree is a pair: a frozenset of (key, rank, parent) and a frozenset of (specimen, home). An edit is written as what
-comes out, and its refusals as a list in the document's order, of which the first that holds is answered.
+comes out, and its refusals as a list in the document's order, of which the first that holds is answered; a question
+as its refusals and a function of the trees told. An answer is a list, or one number plainly.
 """
 
+import functools
 import re
 
 KEY = "([1-9][0-9]{0,8}|1000000000)"
@@ -70,14 +72,30 @@ def text_of(tree, parent=0):
     return ",".join(parts)
 
 
+@functools.lru_cache(maxsize=2000)
 def chain(tree, key):
     """The group and all above it, the nearest first."""
     parents = {k: p for k, _, p in tree[0]}
     return [] if key == 0 else [key] + chain(tree, parents[key])
 
 
+@functools.lru_cache(maxsize=2000)
 def held(tree, key):
     return frozenset(x for x, home in tree[1] if key in chain(tree, home))
+
+
+def sets(tree):
+    return {held(tree, told[0]) for told in tree[0]} - {frozenset()}
+
+
+def holders(tree, x):
+    """The groups that hold the specimen as (rank, key), the highest first."""
+    return sorted((rank, key) for key, rank, _ in tree[0] if x in held(tree, key))
+
+
+def counted(rows):
+    """How many rows there are, and their numbers."""
+    return [len(rows)] + [number for row in rows for number in row]
 
 
 def misranked(groups):
@@ -91,7 +109,9 @@ class Model:
         self.published = {}
 
     def answer(self, name, *told):
-        return getattr(self, "do_" + name)(*told)
+        """The list of numbers that the call answers."""
+        answer = getattr(self, "do_" + name)(*told)
+        return answer if isinstance(answer, list) else [answer]
 
     def draft(self, school):
         return self.history[school][-1]
@@ -200,15 +220,19 @@ class Model:
             {k: (r, g[group][1] if p == group else p) for k, (r, p) in g.items() if k != group},
             {x: g[group][1] if home == group else home for x, home in h.items()}))
 
-    def do_load(self, school, text):
-        told = parse(text)
-        return self.whole(school, [
+    def text_refusals(self, told):
+        """Refusals of a text that has been parsed."""
+        return [
             (-1, lambda: told is None),
             (-2, lambda: len({k for k, _, _ in told[0]}) < len(told[0])),
             (-3, lambda: len({x for x, _ in told[1]}) < len(told[1])),
             (-5, lambda: misranked(told[0])),
             (-9, lambda: len(told[0]) > 32 or len(told[1]) > 64),
-        ], lambda: (frozenset(told[0]), frozenset(told[1])))
+        ]
+
+    def do_load(self, school, text):
+        told = parse(text)
+        return self.whole(school, self.text_refusals(told), lambda: (frozenset(told[0]), frozenset(told[1])))
 
     def do_fetch(self, school, other, day):
         return self.whole(school, self.told_refusals(other, day), lambda: self.tree(other, day))
@@ -248,8 +272,7 @@ class Model:
     def do_agree(self, school, a, aday, b, bday):
         def out():
             one, other = self.tree(a, aday), self.tree(b, bday)
-            sets = {held(other, told[0]) for told in other[0]} - {frozenset()}
-            kept = [told[0] for told in one[0] if held(one, told[0]) in sets]
+            kept = [told[0] for told in one[0] if held(one, told[0]) in sets(other)]
 
             def near(key):
                 return ([k for k in chain(one, key) if k in kept] + [0])[0]
@@ -274,3 +297,87 @@ class Model:
         if number == 0:
             self.published[school, day] = self.draft(school)
         return number
+
+    def ask(self, school, day, refusals, answer):
+        """Refusals and answer are functions of the tree told, which isn't there where it's refused."""
+        number = first(self.told_refusals(school, day))
+        if number != 0:
+            return number
+        tree = self.tree(school, day)
+        number = first(refusals(tree))
+        return number if number != 0 else answer(tree)
+
+    def ask_two(self, a, aday, b, bday, answer):
+        number = first(self.told_refusals(a, aday) + self.told_refusals(b, bday))
+        return number if number != 0 else answer(self.tree(a, aday), self.tree(b, bday))
+
+    def do_text(self, school, day):
+        return self.ask(school, day, lambda tree: [], lambda tree: counted([[ord(sign)] for sign in text_of(tree)]))
+
+    def do_holds(self, school, day, group):
+        return self.ask(school, day, lambda tree: [
+            (-4, lambda: group not in {told[0] for told in tree[0]}),
+        ], lambda tree: counted([[x] for x in sorted(held(tree, group))]))
+
+    def do_path(self, school, day, x):
+        return self.ask(school, day, lambda tree: [
+            (-4, lambda: x not in dict(tree[1])),
+        ], lambda tree: counted([(key, rank) for rank, key in holders(tree, x)]))
+
+    def do_common(self, school, day, specimens):
+        return self.ask(school, day, lambda tree: [
+            (-1, lambda: specimens == [] or not all(is_key(x) for x in specimens)),
+            (-1, lambda: any(specimens.count(x) > 1 for x in specimens)),
+            (-4, lambda: any(x not in dict(tree[1]) for x in specimens)),
+        ], lambda tree: max([(rank, key) for key, rank, _ in tree[0] if held(tree, key) >= set(specimens)] + [(0, 0)])[1])
+
+    def do_level(self, school, day, rank):
+        return self.ask(school, day, lambda tree: [
+            (-1, lambda: rank not in range(1, 9)),
+        ], lambda tree: counted([
+            [key, len(held(tree, key))] + sorted(held(tree, key)) for key, told, _ in sorted(tree[0]) if told == rank]))
+
+    def do_topmost(self, school, day, family, x):
+        ranks = {1: (1, 2, 3, 4), 2: (5, 6), 3: (7, 8)}
+        return self.ask(school, day, lambda tree: [
+            (-1, lambda: family not in ranks),
+            (-4, lambda: x not in dict(tree[1])),
+        ], lambda tree: min([told for told in holders(tree, x) if told[0] in ranks[family]] + [(9, 0)])[1])
+
+    def do_diff(self, a, aday, b, bday):
+        def changes(one, other):
+            groups = [[1, *told] for told in other[0] - one[0]]
+            groups += [[2, key, 0, 0] for key in {told[0] for told in one[0]} - {told[0] for told in other[0]}]
+            specimens = [[3, *told, 0] for told in other[1] - one[1]]
+            return sorted(groups + specimens + [[4, x, 0, 0] for x in dict(one[1]).keys() - dict(other[1]).keys()])
+        return self.ask_two(a, aday, b, bday, lambda one, other: counted(changes(one, other)))
+
+    def do_clashes(self, a, aday, b, bday):
+        def clash(one, other):
+            return one & other and one - other and other - one
+        return self.ask_two(a, aday, b, bday, lambda one, other: counted(sorted(
+            (k, m) for k, _, _ in one[0] for m, _, _ in other[0] if clash(held(one, k), held(other, m)))))
+
+    def do_distance(self, a, aday, b, bday):
+        return self.ask_two(a, aday, b, bday, lambda one, other: [
+            len(sets(one) - sets(other)), len(sets(other) - sets(one))])
+
+    def do_closer(self, school, day, x, y, z):
+        return self.ask(school, day, lambda tree: [
+            (-1, lambda: not is_key(x) or not is_key(y) or not is_key(z) or x == y or x == z or y == z),
+            (-4, lambda: not {x, y, z} <= set(dict(tree[1]))),
+        ], lambda tree: [sum(told & {x, y, z} == {x, y} for told in sets(tree)) and 1])
+
+    def do_versions(self, school):
+        if school not in (1, 2, 3):
+            return -1
+        return counted([[day] for told, day in sorted(self.published) if told == school])
+
+    def do_counts(self, school, day):
+        return self.ask(school, day, lambda tree: [], lambda tree: [
+            len(tree[0]), len(tree[1]), max([len(chain(tree, told[0])) for told in tree[0]] + [0]), len(sets(tree))])
+
+    def do_check(self, text):
+        told = parse(text)
+        number = first(self.text_refusals(told))
+        return number if number != 0 else [len(told[0]), len(told[1])]

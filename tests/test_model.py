@@ -3,14 +3,19 @@
 import random
 import unittest
 
+from groupschools.schools import answers
 from tests import line
-from tests.line import ask, load
+from tests.line import ReadOnly, read_answers
 from tests.model import Model, text_of
 
-NAMES = ("group", "put", "take", "move", "lump", "split", "rank", "dissolve", "load", "fetch", "apply", "agree",
+EDITS = ("group", "put", "take", "move", "lump", "split", "rank", "dissolve", "load", "fetch", "apply", "agree",
          "undo", "publish")
+QUESTIONS = ("text", "holds", "path", "common", "level", "topmost", "diff", "clashes", "distance", "closer",
+             "versions", "counts", "check")
 KEYS = (6, 12, 32, 70)
-LINES = 400
+LINES = 240
+MOST_CALLS = 300
+MOST_NUMBERS = 25000
 ODD = (0, -1, 1000000000, 1000000001, -7)
 
 
@@ -90,7 +95,35 @@ class Chance:
             signs[place:place + self.draw.choice((0, 1))] = self.draw.choice(list("0123456789,:[]{} ") + [""])
         return "".join(signs)
 
+    def told_tree(self, model):
+        """A school and a day; from now on, keys are mostly those of this tree."""
+        school, day = self.school(), self.day()
+        there = [told for told in model.published if told[0] == school and told[1] <= day]
+        self.look_at(model.tree(school, day) if there or (school in (1, 2, 3) and day == -1) else ((), ()))
+        return school, day
+
+    def question(self, name, model):
+        """The arguments of a question."""
+        told = self.told_tree(model)
+        return {
+            "text": lambda: told,
+            "holds": lambda: (*told, self.key()),
+            "path": lambda: (*told, self.specimen()),
+            "common": lambda: (*told, self.some(self.specimens)),
+            "level": lambda: (*told, self.rank()),
+            "topmost": lambda: (*told, self.one_of((1, 2, 3), (0, 4)), self.specimen()),
+            "diff": lambda: (*told, self.school(), self.day()),
+            "clashes": lambda: (*told, self.school(), self.day()),
+            "distance": lambda: (*told, self.school(), self.day()),
+            "closer": lambda: (*told, *[self.one_of(self.specimens, ODD + (9,)) for _ in range(3)]),
+            "versions": lambda: told[:1],
+            "counts": lambda: told,
+            "check": lambda: (self.text(model),),
+        }[name]()
+
     def arguments(self, name, model):
+        if name in QUESTIONS:
+            return self.question(name, model)
         school = self.school()
         groups, specimens = model.draft(school if school in (1, 2, 3) else 1)
         self.look_at((groups, specimens))
@@ -115,27 +148,51 @@ class Chance:
 
 
 class ModelTest(unittest.TestCase):
-    def check_line(self, seed, keys, count):
-        """Gives back how often each call got which answer."""
+    def make_line(self, seed, keys):
+        """Calls of a long line, with what the model answers and the names of the calls."""
         chance, model = Chance(seed, keys), Model()
-        calls, expected, seen = [], [], {}
-        for number in range(count):
-            name = "load" if number < 3 else chance.draw.choice(NAMES)
-            told = (number + 1, chance.first_text()) if number < 3 else chance.arguments(name, model)
+        calls, expected, names = [], [], []
+
+        def add(name, *told):
             calls.append(getattr(line, name)(*told))
             expected.append(model.answer(name, *told))
-            seen[name, expected[-1]] = seen.get((name, expected[-1]), 0) + 1
-            for school in (1, 2, 3) if number == count - 1 else set(told[:1]) & {1, 2, 3}:
-                calls.append(load(school, text_of(model.draft(school))))
-                expected.append(-6)
-        self.assertEqual(ask(calls), expected, (seed, keys))
+            names.append(name)
+
+        for school in (1, 2, 3):
+            add("load", school, chance.first_text())
+        while len(calls) < MOST_CALLS - 4 and sum(len(call) for call in calls) < MOST_NUMBERS - 3000:
+            name = chance.draw.choice(chance.draw.choice((EDITS, QUESTIONS)))
+            told = chance.arguments(name, model)
+            add(name, *told)
+            if name in EDITS and told[0] in (1, 2, 3):
+                add("text", told[0], -1)
+        for school in (1, 2, 3):
+            add("text", school, -1)
+        return calls, expected, names
+
+    def check_line(self, seed, keys):
+        """Gives back how often each call got which first number, of which those above 0 count as 1."""
+        calls, expected, names = self.make_line(seed, keys)
+        numbers = sum(calls, [])
+        self.assertLessEqual(len(calls), MOST_CALLS)
+        self.assertLessEqual(len(numbers), MOST_NUMBERS)
+        before = list(numbers)
+        given = answers(numbers)
+        self.assertEqual(numbers, before)
+        self.assertEqual({type(number) for number in given}, {int})
+        told = read_answers(given, len(calls))
+        for number, answer in enumerate(told):
+            self.assertEqual(answer, expected[number], (seed, keys, number, calls[number]))
+        self.assertEqual(answers(ReadOnly(numbers)), given)
+        seen = {}
+        for name, answer in zip(names, told):
+            seen[name, min(answer[0], 1)] = seen.get((name, min(answer[0], 1)), 0) + 1
         return seen
 
     def test_lines(self):
         seen = {}
         for seed in range(LINES):
-            keys = KEYS[seed % len(KEYS)]
-            for answer, times in self.check_line(seed, keys, 90 if keys < 30 else 25).items():
+            for answer, times in self.check_line(seed, KEYS[seed % len(KEYS)]).items():
                 seen[answer] = seen.get(answer, 0) + times
         # A model that is asked too little would show nothing: most answers must have come.
         wanted = {
@@ -143,7 +200,12 @@ class ModelTest(unittest.TestCase):
             "lump": (0, -1, -4, -5, -6), "split": (0, -1, -2, -4, -6, -9), "rank": (0, -1, -4, -5, -6),
             "dissolve": (0, -1, -4, -5), "load": (0, -1, -2, -3, -5, -6), "fetch": (0, -1, -6, -7),
             "apply": (0, -1, -4, -5, -6, -9), "agree": (0, -1, -6, -7), "undo": (0, -1, -8), "publish": (0, -1, -2),
+            "text": (0, 1, -1, -7), "holds": (0, 1, -1, -4, -7), "path": (1, -1, -4, -7), "common": (0, 1, -1, -4, -7),
+            "level": (0, 1, -1, -7), "topmost": (0, 1, -1, -4, -7), "diff": (0, 1, -1, -7), "clashes": (0, 1, -1, -7),
+            "distance": (0, 1, -1, -7), "closer": (0, 1, -1, -4, -7), "versions": (0, 1, -1), "counts": (0, 1, -1, -7),
+            "check": (0, 1, -1, -2, -3, -5),
         }
+        self.assertEqual(set(wanted), set(EDITS + QUESTIONS))
         for name, numbers in wanted.items():
             for number in numbers:
                 self.assertGreater(seen.get((name, number), 0), 4, (name, number))

@@ -4,9 +4,11 @@ import unittest
 
 from groupschools.schools import answers
 from tests.line import (
-    FAR, MOST_DAY, LineCase, ReadOnly, agree, apply, ask, dissolve, fetch, group, load, lump, move, publish, put, rank,
-    split, take, undo,
+    FAR, MOST_DAY, LineCase, QuestionCase, ReadOnly, agree, apply, ask, ask_all, check, clashes, closer, common, counts,
+    diff, dissolve, distance, fetch, group, holds, level, load, lump, move, path, publish, put, rank, read_answers,
+    split, take, text, topmost, undo, versions,
 )
+from tests.samples import FULL
 
 NO_SCHOOLS = (0, 4, -1, FAR, -FAR)
 
@@ -116,17 +118,63 @@ class PublishTest(LineCase):
         self.assertEqual(ask([publish(1, -1), publish(0, 3), fetch(1, 1, MOST_DAY)]), [-1, -1, -7])
 
 
+class VersionsTest(QuestionCase):
+    def test_none(self):
+        for school in (1, 2, 3):
+            self.check_answer([0], versions(school))
+            self.check_answer([0], versions(school), load(school, "1:1"), publish(school % 3 + 1, 4))
+
+    def test_days_ascend(self):
+        calls = [publish(1, day) for day in (100, 9, MOST_DAY, 10, 0, 99)]
+        self.check_answer([6, 0, 9, 10, 99, 100, MOST_DAY], versions(1), *calls)
+
+    def test_each_school_has_its_own(self):
+        calls = [publish(2, 8), publish(1, 5), publish(2, 3), load(1, "1:1"), publish(3, 5), publish(1, 4)]
+        self.check_answer([2, 4, 5], versions(1), *calls)
+        self.check_answer([2, 3, 8], versions(2), *calls)
+        self.check_answer([1, 5], versions(3), *calls)
+
+    def test_all_sixteen(self):
+        self.check_answer([16] + list(range(16)), versions(2), *[publish(2, 15 - day) for day in range(16)])
+        told = ask_all([publish(2, 15 - day) for day in range(16)] + [publish(2, 20), versions(2), versions(1)])
+        self.assertEqual(told[-3:], [[-9], [16] + list(range(16)), [0]])
+
+    def test_refused_publish_is_none(self):
+        told = ask_all([publish(1, -1), publish(1, MOST_DAY + 1), publish(1, 3), publish(1, 3), versions(1)])
+        self.assertEqual(told, [[-1], [-1], [0], [-2], [1, 3]])
+
+    def test_edits_and_undo_leave_versions(self):
+        calls = [load(1, "1:1"), publish(1, 3), undo(1), load(1, "1:2"), load(1, "")]
+        self.check_answer([1, 3], versions(1), *calls)
+
+    def test_refused(self):
+        for school in NO_SCHOOLS:
+            self.check_answer([-1], versions(school))
+            self.check_answer([-1], versions(school), publish(1, 3))
+
+
 class InterfaceTest(unittest.TestCase):
+    # Every call with what it answers.
+    rows = (
+        (group(1, 1, 1, 0), [0]), (group(1, 2, 2, 1), [0]), (put(1, 5, 2), [0]), (put(1, 6, 1), [0]),
+        (take(1, 6), [0]), (move(1, 2, 0), [0]), (lump(1, 1, 2), [-5]), (split(1, 2, 3, [], [5]), [0]),
+        (rank(1, 3, 4), [0]), (dissolve(1, 2), [0]), (load(2, "5:7[1 2]{7:3[9],7:4}"), [0]), (fetch(3, 2, -1), [0]),
+        (apply(3, [[4, 9, 0, 0]]), [0]), (agree(1, 2, -1, 3, -1), [0]), (undo(1), [0]), (publish(1, 7), [0]),
+        (undo(4), [-1]), (publish(1, 7), [-2]), (text(1, 7), [10, 49, 58, 49, 44, 52, 58, 51, 91, 53, 93]),
+        (holds(2, -1, 7), [3, 1, 2, 9]), (path(2, -1, 9), [2, 7, 5, 3, 7]), (common(2, -1, [9, 1]), [7]),
+        (level(2, -1, 7), [2, 3, 1, 9, 4, 0]), (topmost(2, -1, 3, 9), [3]),
+        (diff(2, -1, 3, -1), [1, 4, 9, 0, 0]), (clashes(2, -1, 3, -1), [0]), (distance(2, -1, 3, -1), [2, 1]),
+        (closer(2, -1, 1, 2, 9), [0]), (versions(1), [1, 7]), (counts(2, -1), [3, 3, 2, 2]), (check("1:1[2]"), [1, 1]),
+        (text(0, 7), [-1]), (holds(1, 6, 1), [-7]), (common(1, -1, []), [-1]), (check("1"), [-1]), (text(1, -1), [
+            10, 49, 58, 49, 44, 52, 58, 51, 91, 53, 93]),
+    )
+
     def line(self):
-        return sum([
-            group(1, 1, 1, 0), group(1, 2, 2, 1), put(1, 5, 2), put(1, 6, 1), take(1, 6), move(1, 2, 0), lump(1, 1, 2),
-            split(1, 2, 3, [], [5]), rank(1, 3, 4), dissolve(1, 2), load(2, "5:7[1 2]{7:3[9],7:4}"), fetch(3, 2, -1),
-            apply(3, [[4, 9, 0, 0]]), agree(1, 2, -1, 3, -1), undo(1), publish(1, 7), undo(4), publish(1, 7),
-        ], [])
+        return sum([call for call, answer in self.rows], [])
 
     def test_form_of_the_answers(self):
-        told = [0, 0, 0, 0, 0, 0, -5, 0, 0, 0, 0, 0, 0, 0, 0, 0, -1, -2]
-        self.assertEqual(answers(self.line()), sum([[1, number] for number in told], []))
+        self.assertEqual({call[0] for call, answer in self.rows}, set(range(27)))
+        self.assertEqual(answers(self.line()), sum([[len(answer)] + answer for call, answer in self.rows], []))
 
     def test_one_call(self):
         self.assertEqual(answers([12, 1]), [1, -8])
@@ -134,6 +182,20 @@ class InterfaceTest(unittest.TestCase):
         self.assertEqual(answers([8, 1, 0]), [1, -6])
         self.assertEqual(answers([5, 1, 1, 2, 0, 0]), [1, -4])
         self.assertEqual(answers([10, 1, 0]), [1, -6])
+        self.assertEqual(answers([14, 1, -1]), [1, 0])
+        self.assertEqual(answers([15, 1, -1, 1]), [1, -4])
+        self.assertEqual(answers([16, 1, -1, 1]), [1, -4])
+        self.assertEqual(answers([17, 1, -1, 1, 1]), [1, -4])
+        self.assertEqual(answers([17, 1, -1, 0]), [1, -1])
+        self.assertEqual(answers([18, 1, -1, 1]), [1, 0])
+        self.assertEqual(answers([19, 1, -1, 1, 1]), [1, -4])
+        self.assertEqual(answers([20, 1, -1, 2, -1]), [1, 0])
+        self.assertEqual(answers([21, 1, -1, 2, -1]), [1, 0])
+        self.assertEqual(answers([22, 1, -1, 2, -1]), [2, 0, 0])
+        self.assertEqual(answers([23, 1, -1, 1, 2, 3]), [1, -4])
+        self.assertEqual(answers([24, 1]), [1, 0])
+        self.assertEqual(answers([25, 1, -1]), [4, 0, 0, 0, 0])
+        self.assertEqual(answers([26, 0]), [2, 0, 0])
 
     def test_kinds_of_the_answers(self):
         given = answers(self.line())
@@ -167,6 +229,28 @@ class InterfaceTest(unittest.TestCase):
     def test_long_line(self):
         long = [load(1, "1:1{" * 525)] * 11
         self.assertEqual(ask(long), [-1] * 11)
+        long = [check("{" * 2100)] * 11
+        self.assertEqual(ask(long), [-1] * 11)
+        long = [common(1, -1, list(range(1, 2101)))] * 11
+        self.assertEqual(ask(long), [-4] * 11)
+
+    def test_long_answers(self):
+        # The full tree is asked 298 times, by each call that tells much of it.
+        calls = [load(1, FULL), publish(1, 0)]
+        questions = [text(1, 0), level(1, -1, 1), diff(2, -1, 1, 0), clashes(1, -1, 1, 0), common(1, 0, [110, 185])]
+        told = ask_all(calls + [questions[number % 5] for number in range(298)])
+        for number in range(2, 295):
+            self.assertEqual(told[number], told[number + 5])
+        self.assertEqual([answer[0] for answer in told[2:7]], [len(FULL), 4, 96, 0, 11])
+
+    def test_questions_change_nothing(self):
+        # Each question stands behind each other call once more, which must not show.
+        questions = [call for call, answer in self.rows if call[0] >= 14]
+        plain = answers(self.line())
+        for question in questions:
+            calls = sum([[call, question] for call, answer in self.rows], [])
+            told = read_answers(answers(sum(calls, [])), len(calls))
+            self.assertEqual(sum([[len(answer)] + answer for answer in told[::2]], []), plain)
 
 
 if __name__ == "__main__":

@@ -1,8 +1,11 @@
-"""Texts in form, and load."""
+"""Texts in form: load and check."""
 
 import unittest
 
-from tests.line import FAR, LineCase, ask, fetch, in_brackets, load, put, side_by_side, take
+from tests.line import (
+    FAR, LineCase, QuestionCase, ask, ask_all, check, counts, fetch, in_brackets, load, put, side_by_side, take, text,
+)
+from tests.samples import DEEP, EMPTY, FULL, HOLLOW, TOPS
 
 EXAMPLE = "5:7[1 2]{7:3[9],7:4}"
 
@@ -34,6 +37,7 @@ class LoadTest(LineCase):
             with self.subTest(text=text):
                 self.assertEqual(self.answer(text), refusal)
                 self.check_refused(refusal, load(1, text))
+                self.assertEqual(ask_all([check(text)]), [[refusal]])
 
     def test_examples(self):
         self.assertEqual(self.answer(EXAMPLE), 0)
@@ -147,6 +151,54 @@ class LoadTest(LineCase):
         self.check_refusals([(-1, [load(school, "1:1") for school in (0, 4, -1, FAR, -FAR)])])
         self.check_refusals([(-1, [load(0, self.text)])])
         self.assertEqual(ask([load(3, "1:1"), fetch(1, 3, -1), load(1, "1:1")]), [0, 0, -6])
+
+
+class CheckTest(QuestionCase):
+    """The texts that load refuses are asked of check there, each beside load."""
+
+    def check_counted(self, written, groups, specimens):
+        self.check_answer([groups, specimens], check(written))
+
+    def test_samples(self):
+        self.check_counted(EMPTY, 0, 0)
+        self.check_counted(HOLLOW, 6, 1)
+        self.check_counted(TOPS, 4, 6)
+        self.check_counted(DEEP, 8, 8)
+        self.check_counted(FULL, 32, 64)
+        self.check_counted(EXAMPLE, 3, 3)
+        self.check_counted("5:7[2 1]{7:4,7:3[9]}", 3, 3)
+
+    def test_most(self):
+        self.check_counted(side_by_side(1, 32), 32, 0)
+        self.check_counted("1:1" + in_brackets(1, 64), 1, 64)
+        self.check_counted("8:1000000000[1000000000 1]", 1, 2)
+
+    def test_refused(self):
+        rows = [
+            (-1, ["5:7{}", "5:07", "5:7[1", "1:1[]", "9:1", "0:1", "1:1000000001", " ", long_text(2001), [0], [255]]),
+            (-1, [nested([1, 2, 3, 4, 5, 6, 7, 8, 8]), "{" * 2100, "1:1{" * 525, [49] * 2100]),
+            (-2, ["5:7,5:7", "1:1{2:1}"]),
+            (-3, ["5:7[1],5:8[1]", "1:1[1 1]"]),
+            (-5, ["5:7{5:3}", "2:1{1:2}"]),
+            (-9, [side_by_side(1, 33), "1:1" + in_brackets(1, 65), long_text(2000)]),
+        ]
+        for refusal, texts in rows:
+            for written in texts:
+                self.check_answer([refusal], check(written), load(1, EXAMPLE), load(2, TOPS))
+
+    def test_first_refusal(self):
+        self.check_answer([-1], check("1:1[2 2],1:1,"))
+        self.check_answer([-2], check("2:1[2 2]{1:1}," + side_by_side(1, 33)))
+        self.check_answer([-3], check("2:1[2 2]{1:40}," + side_by_side(2, 33)))
+        self.check_answer([-5], check("2:1[2]{1:40}," + side_by_side(2, 33)))
+
+    def test_own_draft_is_not_refused(self):
+        for written in (EXAMPLE, HOLLOW, TOPS, DEEP, FULL):
+            calls = [load(school, written) for school in (1, 2, 3)]
+            told = ask_all(calls + [text(1, -1), counts(1, -1)])
+            self.assertEqual("".join(chr(byte) for byte in told[3][1:]), written)
+            self.check_answer(told[4][:2], check(told[3][1:]), *calls)
+        self.assertEqual(ask_all([check("")]), [[0, 0]])
 
 
 if __name__ == "__main__":
