@@ -165,6 +165,7 @@ class CommonTest(QuestionCase):
 
     def test_one_alone(self):
         self.check_common(HOLLOW, [(5, [6])])
+        self.check_common("1:1,1:2[3]{2:3,2:4[1 2]{3:6}},1:5", [(4, [1]), (4, [2, 1]), (2, [3]), (2, [3, 1])])
         self.check_common(TOPS, [(2, [1]), (2, [9]), (4, [3]), (7, [2]), (7, [4]), (10, [5])])
 
     def test_several(self):
@@ -305,6 +306,7 @@ class CloserTest(QuestionCase):
     def test_samples(self):
         self.check_closer(TOPS, [(1, 1, 9, 2), (0, 1, 9, 3), (1, 1, 3, 2), (1, 2, 4, 5), (0, 2, 1, 4), (0, 1, 2, 5)])
         self.check_closer(DEEP, [(1, 17, 18, 16), (0, 16, 17, 18), (0, 16, 18, 17), (1, 12, 18, 11), (0, 11, 12, 13)])
+        self.check_closer("1:1,1:2[3]{2:3,2:4[1 2]{3:6}},1:5", [(1, 1, 2, 3), (0, 1, 3, 2), (0, 3, 2, 1)])
         low, high = full_homed(2, 8), full_homed(2, 7)
         self.check_closer(FULL, [
             (1, low[0], low[1], high[0]), (0, low[0], high[0], low[1]), (0, high[0], high[1], low[0]),
